@@ -1,0 +1,1 @@
+"""Mixtrees: feeds that are mixed by turns."""
