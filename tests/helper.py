@@ -1,5 +1,6 @@
-"""What several tests use: trees, values that are none, and another way to mix."""
+"""What several tests use: trees, values that are not allowed, other ways to mix, and checks of errors."""
 
+import itertools
 import random
 import string
 
@@ -63,6 +64,44 @@ ALMOST_TREES = [
 
 NOT_TREES = ODD_VALUES + ALMOST_TREES
 
+# Values that are not the lengths of three feeds.
+BAD_LENGTHS = ODD_VALUES + [
+    (1, 1), (1, 1, 1, 1), [1, 1, 1], (-1, 1, 1), (1, -1, 1), (1, 1, -1), (61, 1, 1), (1, 61, 1), (1, 1, 61),
+    (True, 1, 1), (1, 1, False), (1, None, 1), (1, '1', 1), (1, (1,), 1), ([1], 1, 1), (1, 1, 10 ** 39),
+    (1, -10 ** 39, 1), 'abc', '111', 3, 1, 0, {'a': 1, 'b': 1, 'c': 1}, (1, 1, 1, None), ('a', 'b', 'c'),
+]
+
+# Values that are not names of feeds called a, b and c.
+BAD_NAMES = ODD_VALUES + ['d', 'ab', 'abc', 'B', 'a ', 0, 1, ['a'], ('a', 0), {'a': 1}]
+
+# Values that are not items of feeds called a, b and c with two items each.
+BAD_ITEMS = ODD_VALUES + [
+    ('a', 2), ('b', 2), ('c', 2), ('a', -1), ('a', 3), ('a', 60), ('d', 0), ('ab', 0), ('', 0), ('A', 0),
+    ('a', True), ('a', False), ('a', None), ('a', '0'), ('a', (0,)), ('a', [0]), ('a', 10 ** 39), ('a', -10 ** 39),
+    ['a', 0], ('a',), ('a', 0, 0), (0, 'a'), (None, 0), (0, 0), (('a',), 0), (['a'], 0), (('a', 0),), [('a', 0)],
+    'a', 'a0', 0, 1, {'a': 0},
+]
+
+# Values that are not integers from 0 on, or far above every limit.
+BAD_NUMBERS = ODD_VALUES + [-2, -60, -10 ** 39, 10 ** 39, '0', '1', (0,), (1,), [0], [1], {}, {0: 1}]
+
+# Trees of one feed, mixers of one part, and trees of eight feeds in four levels of mixers.
+ONE_FEED = ['a', 'abcdef', ((9, 'a'),), nested(4, 'a')]
+SINGLE_PARTS = [
+    nested(2, A),
+    ((4, B),),
+    ((3, ((2, 'a'),)), (1, 'b')),
+    ((2, ((3, ((1, ((9, 'a'),)), (2, 'b'))),)), (5, ((7, 'c'),))),
+]
+DEEP = [
+    ((2, ((3, ((1, ((2, 'a'), (1, 'b'))), (4, 'c'))), (1, ((2, 'd'), (5, 'e'))))), (3, ((1, 'f'), (2, 'g'))), (1, 'h')),
+    ((9, ((1, ((2, ((1, 'a'), (3, 'b'))), (3, ((2, 'c'), (2, 'd'))))),
+          (2, ((1, ((4, 'e'), (1, 'f'))), (5, ((1, 'g'), (9, 'h'))))))),),
+    ((1, ((1, ((1, flat('abcde')), (1, 'f'))), (1, 'g'))), (1, 'h')),
+    ((1, 'h'), (9, ((2, 'g'), (9, ((3, 'f'), (8, ((4, 'a'), (5, 'b'), (6, 'c'), (7, 'd'), (9, 'e')))))))),
+]
+SPECIAL = [A, B, F, G] + ONE_FEED + SINGLE_PARTS + DEEP
+
 
 def names_of(tree):
     if isinstance(tree, str):
@@ -121,3 +160,69 @@ def some_lengths(tree, number):
     source = random.Random(number)
     most = source.choice([1, 4, 15, 60])
     return tuple(source.choice([0, source.randint(0, most), most]) for name in names_of(tree))
+
+
+def edge_lengths(tree):
+    """Lengths at their limits: all feeds empty or full, and only one of them so."""
+    many = len(names_of(tree))
+    found = [(0,) * many, (60,) * many, (1,) * many]
+    for at in range(many):
+        found.append((0,) * at + (60,) + (0,) * (many - at - 1))
+        found.append((60,) * at + (0,) + (60,) * (many - at - 1))
+        found.append((0,) * at + (1,) + (0,) * (many - at - 1))
+    return found
+
+
+def some_cases(many=150):
+    """Pairs of a tree and lengths: special trees, also with lengths at their limits, and many others."""
+    cases = [(tree, some_lengths(tree, number)) for number, tree in enumerate(SPECIAL * 3 + some_trees(many))]
+    return cases + [(tree, lengths) for tree in (A, B, G, *ONE_FEED, DEEP[0]) for lengths in edge_lengths(tree)]
+
+
+def endless(tree):
+    """The endless row of names, without an end."""
+    if isinstance(tree, str):
+        yield from itertools.repeat(tree)
+    parts = [(weight, endless(part)) for weight, part in tree]
+    while True:
+        for weight, part in parts:
+            yield from itertools.islice(part, weight)
+
+
+def row_of(tree, many):
+    return list(itertools.islice(endless(tree), many))
+
+
+def error_of(function, arguments):
+    """The class of the error that a call raises, or None."""
+    try:
+        function(*arguments)
+    except Exception as error:
+        return type(error)
+    return None
+
+
+def check_wrong(test, function, good, wrong):
+    """Checks that each wrong argument raises its error, whatever the arguments behind it are.
+
+    The wrong arguments are a pair (error, values) for each argument, in order.
+    """
+    test.assertIsNone(error_of(function, good))
+    for at, (error, values) in enumerate(wrong):
+        for number, value in enumerate(values):
+            behind = [others[number % len(others)] for later, others in wrong[at + 1:]]
+            for rest in (good[at + 1:], tuple(behind)):
+                arguments = (*good[:at], value, *rest)
+                # Some of the values are too large to be shown.
+                test.assertIs(error_of(function, arguments), error, (function.__name__, at, number))
+
+
+def check_new_list(test, function, *arguments):
+    """Checks that a returned list belongs to the caller."""
+    result = function(*arguments)
+    test.assertIs(type(result), list)
+    before = list(result)
+    result.append(None)
+    result[0] = 'changed'
+    test.assertEqual(function(*arguments), before)
+    test.assertIsNot(function(*arguments), function(*arguments))

@@ -20,6 +20,9 @@ INTERFACE = {
     'errors': ['MixError'],
     'trees': ['is_tree', 'feeds_of', 'together', 'fair', 'plain', 'restricted'],
     'mixing': ['mixed', 'walk'],
+    'places': ['place_of', 'item_at', 'is_before', 'counts_in', 'when_all'],
+    'changes': ['push', 'push_limit'],
+    'endless': ['names_endless', 'period', 'shares', 'counts_endless', 'longest_wait'],
 }
 
 

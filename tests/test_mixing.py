@@ -7,13 +7,9 @@ from mixtrees import mixing
 from mixtrees.errors import InvalidLengths, InvalidNumber, InvalidTree
 from mixtrees.mixing import mixed, walk
 from mixtrees.trees import feeds_of, plain, restricted
-from tests.helper import A, B, F, G, NOT_TREES, ODD_VALUES, by_rounds, flat, nested, some_lengths, some_trees
+from tests.helper import (
+    A, B, BAD_LENGTHS, F, G, NOT_TREES, ODD_VALUES, by_rounds, flat, nested, some_lengths, some_trees)
 
-BAD_LENGTHS = ODD_VALUES + [
-    (1, 1), (1, 1, 1, 1), [1, 1, 1], (-1, 1, 1), (1, -1, 1), (1, 1, -1), (61, 1, 1), (1, 61, 1), (1, 1, 61),
-    (True, 1, 1), (1, 1, False), (1, None, 1), (1, '1', 1), (1, (1,), 1), ([1], 1, 1), (1, 1, 10 ** 39),
-    (1, -10 ** 39, 1), 'abc', '111', 3, 1, 0, {'a': 1, 'b': 1, 'c': 1}, (1, 1, 1, None), ('a', 'b', 'c'),
-]
 BAD_FIRST = [value for value in ODD_VALUES if value is not None] + [-1, 481, 482, 10 ** 39, -10 ** 39, '3', (3,), [3]]
 
 
