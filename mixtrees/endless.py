@@ -1,7 +1,7 @@
 """Endless feeds: the row of the feeds from which items are taken if no feed ever ends."""
 
 from mixtrees.errors import InvalidNumber, TooLong
-from mixtrees.mixing import source_of
+from mixtrees.mixing import first_names
 from mixtrees.places import counts_of_feeds
 from mixtrees.trees import is_whole, names_in, plain, require_name, require_tree
 
@@ -15,7 +15,7 @@ def names_endless(tree, many):
     require_tree(tree)
     if not is_whole(many, 0, MOST_NAMES):
         raise InvalidNumber("many must be an integer from 0 to 1000")
-    return first_names(tree, many)
+    return names_without_end(tree, many)
 
 
 def period(tree):
@@ -42,13 +42,19 @@ def longest_wait(tree, name):
     """The largest number of items of other feeds between two successive items of a feed."""
     require_tree(tree)
     require_name(tree, name)
+    size = short_period(tree)
+    # Two periods, so that the wait from the last item of a period to the first one of the next is there, too.
+    row = names_without_end(tree, 2 * size)
+    places = [place for place, found in enumerate(row) if found == name]
+    return max([after - before - 1 for before, after in zip(places, places[1:])])
+
+
+def short_period(tree):
+    """The period of a tree; raises TooLong if it is more than 5000."""
     size = period(tree)
     if size > LONGEST_PERIOD:
         raise TooLong("the period is more than 5000")
-    # Two periods, so that the wait from the last item of a period to the first one of the next is there, too.
-    row = first_names(tree, 2 * size)
-    places = [place for place, found in enumerate(row) if found == name]
-    return max([after - before - 1 for before, after in zip(places, places[1:])])
+    return size
 
 
 def long_enough(tree, many):
@@ -57,14 +63,9 @@ def long_enough(tree, many):
     return {name: many for name in names_in(tree)}
 
 
-def first_names(tree, many):
+def names_without_end(tree, many):
     """The names of the feeds from which the first items are taken, however many."""
-    source = source_of(tree, long_enough(tree, many))
-    names = []
-    for number in range(many):
-        name, index = source.take()
-        names.append(name)
-    return names
+    return first_names(tree, long_enough(tree, many), many)
 
 
 def period_of(tree):

@@ -34,23 +34,45 @@ def require_lengths(tree, value):
             raise InvalidLengths("a length must be an integer from 0 to 60")
 
 
-class FeedSource:
-    """A feed from which items are taken."""
+def first_names(tree, lengths, many):
+    """The names of the feeds from which the first items are taken, of which there must be so many.
 
-    def __init__(self, name, length):
+    The lengths are a dict by the names of the feeds, and may be above 60.
+    """
+    source = source_of(tree, lengths)
+    names = []
+    for number in range(many):
+        name, index = source.take()
+        names.append(name)
+    return names
+
+
+class FeedSource:
+    """A feed from which items are taken; the lengths are a dict by the names of the feeds."""
+
+    def __init__(self, name, lengths):
         self.name = name
-        self.length = length
+        # The dict itself, not the length in it, since its owner may make the feed longer meanwhile.
+        self.lengths = lengths
         self.given = 0
 
     def has_more(self):
         """Whether the feed has items left."""
-        return self.given < self.length
+        return self.given < self.lengths[self.name]
 
     def take(self):
         """The next item of the feed, which is taken from it."""
         item = (self.name, self.given)
         self.given += 1
         return item
+
+    def mark(self):
+        """Where the feed is now, for go_back."""
+        return self.given
+
+    def go_back(self, mark):
+        """Gives back all items that were taken since the feed was at this mark."""
+        self.given = mark
 
 
 class MixerSource:
@@ -81,10 +103,20 @@ class MixerSource:
         while not self.parts[self.at].has_more():
             self.at = (self.at + 1) % len(self.parts)
 
+    def mark(self):
+        """Where the mixer and all its parts are now, for go_back."""
+        return self.at, self.in_turn, [part.mark() for part in self.parts]
+
+    def go_back(self, mark):
+        """Gives back all items that were taken since the mixer and its parts were at this mark."""
+        self.at, self.in_turn, marks = mark
+        for part, inner in zip(self.parts, marks):
+            part.go_back(inner)
+
 
 def source_of(tree, lengths):
     """A feed or mixer of which nothing has been taken; the lengths are a dict by the names of the feeds."""
     if isinstance(tree, str):
-        return FeedSource(tree, lengths[tree])
+        return FeedSource(tree, lengths)
     weights = [weight for weight, part in tree]
     return MixerSource(weights, [source_of(part, lengths) for weight, part in tree])

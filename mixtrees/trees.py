@@ -53,9 +53,14 @@ def restricted(tree, names):
     return without_single_parts(without_other_feeds(tree, names))
 
 
+def is_number(value):
+    """Whether any value is an integer."""
+    return isinstance(value, int) and not isinstance(value, bool)
+
+
 def is_whole(value, low, high):
     """Whether any value is an integer from low to high."""
-    return isinstance(value, int) and not isinstance(value, bool) and low <= value <= high
+    return is_number(value) and low <= value <= high
 
 
 def require_tree(value):

@@ -85,6 +85,13 @@ BAD_ITEMS = ODD_VALUES + [
 # Values that are not integers from 0 on, or far above every limit.
 BAD_NUMBERS = ODD_VALUES + [-2, -60, -10 ** 39, 10 ** 39, '0', '1', (0,), (1,), [0], [1], {}, {0: 1}]
 
+# Values that are not seen names of feeds called a, b and c, also if some of them could not be read.
+BAD_SEEN = [value for value in ODD_VALUES if value not in ((), (None,), ('a',), ('a', 'b'))] + [
+    ('d',), ('a', 'd'), ('d', 'a'), ('a', 'ab'), ('abc',), ('A',), ('',), ('a ',), ('a', 0), (0,), (True,), (False, 'a'),
+    ('a', ('b',)), ('a', ['b']), (['a'],), (('a', 0),), ('a', ()), ['a', 'b'], ['a', 'c', 'b'], 'a', 'ab', 'acb', 0, 1, 3,
+    ('a',) * 61, ('a', 'c', 'b') * 21, ('a',) * 80, ('a',) * 60 + (None,), (None,) * 5, (None,) * 80, {'a': 1}, [None],
+]
+
 # Trees of one feed, mixers of one part, and trees of eight feeds in four levels of mixers.
 ONE_FEED = ['a', 'abcdef', ((9, 'a'),), nested(4, 'a')]
 SINGLE_PARTS = [
@@ -156,6 +163,20 @@ def some_trees(many=150):
     return trees
 
 
+def plain_trees(names, weights):
+    """All trees with these names in this order and these weights in which each mixer has several parts."""
+    if len(names) == 1:
+        return [names[0]]
+    trees = []
+    for cuts in itertools.chain.from_iterable(
+            itertools.combinations(range(1, len(names)), many) for many in range(1, len(names))):
+        groups = [names[low:high] for low, high in zip((0, *cuts), (*cuts, len(names)))]
+        for parts in itertools.product(*[plain_trees(group, weights) for group in groups]):
+            for row in itertools.product(weights, repeat=len(parts)):
+                trees.append(tuple(zip(row, parts)))
+    return trees
+
+
 def some_lengths(tree, number):
     source = random.Random(number)
     most = source.choice([1, 4, 15, 60])
@@ -177,6 +198,16 @@ def some_cases(many=150):
     """Pairs of a tree and lengths: special trees, also with lengths at their limits, and many others."""
     cases = [(tree, some_lengths(tree, number)) for number, tree in enumerate(SPECIAL * 3 + some_trees(many))]
     return cases + [(tree, lengths) for tree in (A, B, G, *ONE_FEED, DEEP[0]) for lengths in edge_lengths(tree)]
+
+
+def all_lengths(feeds, many):
+    """All tuples of so many lengths whose sum is many."""
+    return [lengths for lengths in itertools.product(range(many + 1), repeat=feeds) if sum(lengths) == many]
+
+
+def names_by_rounds(tree, lengths):
+    """The feeds of the whole output, as a tuple of their names."""
+    return tuple(name for name, index in by_rounds(tree, lengths))
 
 
 def endless(tree):

@@ -3,10 +3,11 @@
 import itertools
 import unittest
 
+from mixtrees.comparing import difference, same_always
 from mixtrees.mixing import mixed
 from mixtrees.places import counts_in, is_before, item_at, place_of, when_all
-from mixtrees.trees import restricted
-from tests.helper import SPECIAL, by_rounds, names_of, some_cases, some_lengths, some_trees
+from mixtrees.trees import is_tree, plain, restricted
+from tests.helper import SPECIAL, by_rounds, names_of, plain_trees, some_cases, some_lengths, some_trees
 
 
 def meeting_parts(tree, name, other):
@@ -90,3 +91,47 @@ class AgreementTest(unittest.TestCase):
                 self.assertEqual(item_at(tree, some, place), item)
                 counts = dict(zip(names, counts_in(tree, some, place)))
                 self.assertEqual([counts[name] for name in kept], counts_in(smaller, left, place))
+
+
+def outputs_of_some(tree, feeds):
+    """The outputs if only so many feeds have items: three items each, one more than the weights below."""
+    rows = []
+    for chosen in itertools.combinations(names_of(tree), feeds):
+        rows.append(tuple(mixed(tree, tuple(3 * (name in chosen) for name in names_of(tree)))))
+    return tuple(rows)
+
+
+def with_single_parts(tree):
+    """The trees in which one part, or the whole tree, is put into a mixer of one part."""
+    found = [((7, tree),)]
+    if not isinstance(tree, str):
+        for at, (weight, part) in enumerate(tree):
+            found.extend(tree[:at] + ((weight, inner),) + tree[at + 1:] for inner in with_single_parts(part))
+    return [other for other in found if is_tree(other)]
+
+
+class TwoTreesTest(unittest.TestCase):
+
+    trees = plain_trees('abcd', (1, 2))
+
+    def test_two_feeds_are_not_enough_and_three_are(self):
+        self.assertEqual(len(set(self.trees)), 496)
+        by_two = {tree: outputs_of_some(tree, 2) for tree in self.trees}
+        self.assertLess(len(set(by_two.values())), 496)
+        by_three = {tree: (by_two[tree], outputs_of_some(tree, 3)) for tree in self.trees}
+        self.assertEqual(len(set(by_three.values())), 496)
+        alike = 0
+        for one, other in itertools.combinations(self.trees, 2):
+            if by_two[one] == by_two[other]:
+                alike += 1
+                self.assertIs(same_always(one, other), False)
+                self.assertEqual(len([length for length in difference(one, other) if length > 0]), 3)
+        self.assertGreater(alike, 10)
+
+    def test_mixers_of_one_part_make_no_difference(self):
+        for number, tree in enumerate(self.trees[::4] + SPECIAL + some_trees(24)):
+            lengths = some_lengths(tree, number)
+            for other in with_single_parts(tree):
+                self.assertEqual(plain(other), plain(tree))
+                self.assertEqual(mixed(other, lengths), mixed(tree, lengths))
+                self.assertIs(same_always(tree, other), True)
